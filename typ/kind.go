@@ -7,23 +7,39 @@ import (
 
 // scope has what a name may stand for, and where the first fault was found.
 type scope struct {
-	decls  map[string]syn.Node
+	values map[string]api.Kind // of inputs and rules
+	tables map[string]syn.Node // apart, since a tree with a fault may have a table and an input of one name
+	decls  map[string]int      // how many declarations have the name, of whatever form
 	beside map[string]api.Kind
 	sums   map[string]int // how many of the sums around have the name
 	fault  int
 }
 
 func newScope(n syn.Node, with []Field) *scope {
-	s := &scope{decls: map[string]syn.Node{}, beside: map[string]api.Kind{}, sums: map[string]int{}}
+	s := &scope{
+		values: map[string]api.Kind{}, tables: map[string]syn.Node{}, decls: map[string]int{},
+		beside: map[string]api.Kind{}, sums: map[string]int{},
+	}
 	for _, d := range n.Kids {
-		if _, twice := s.decls[d.Name]; !twice {
-			s.decls[d.Name] = d
-		}
+		s.declare(d)
 	}
 	for _, f := range with {
 		s.beside[f.Name] = f.Kind // the last one is the innermost
 	}
 	return s
+}
+
+// declare keeps the first of those that are alike in name and use.
+func (s *scope) declare(d syn.Node) {
+	s.decls[d.Name]++
+	_, value := s.values[d.Name]
+	_, table := s.tables[d.Name]
+	switch {
+	case d.Op == "table" && !table:
+		s.tables[d.Name] = d
+	case (d.Op == "input" || d.Op == "rule") && !value:
+		s.values[d.Name] = d.Kind
+	}
 }
 
 // kind tells an expression's kind; None, if it has a fault: then s.fault is where.
@@ -86,10 +102,7 @@ func (s *scope) named(name string) api.Kind {
 	if k, ok := s.beside[name]; ok {
 		return k
 	}
-	if d := s.decls[name]; d.Op == "input" || d.Op == "rule" {
-		return d.Kind
-	}
-	return api.None
+	return s.values[name] // None, if there is none
 }
 
 func (s *scope) ofOne(e syn.Node, k api.Kind) api.Kind {
@@ -101,16 +114,15 @@ func (s *scope) ofOne(e syn.Node, k api.Kind) api.Kind {
 	case "len":
 		return only(k == api.List, api.Count)
 	case "at":
-		t := s.decls[e.Name]
-		return only(t.Op == "table" && int64(k) == t.N, t.Kind)
+		t, ok := s.tables[e.Name]
+		return only(ok && int64(k) == t.N, t.Kind)
 	}
 	return api.None
 }
 
 func (s *scope) ofSum(name string, list, each api.Kind) api.Kind {
-	_, declared := s.decls[name]
 	_, beside := s.beside[name]
-	taken := declared || beside || s.sums[name] > 0
+	taken := s.decls[name] > 0 || beside || s.sums[name] > 0
 	return only(!taken && list == api.List && (each == api.Money || each == api.Count), each)
 }
 

@@ -384,3 +384,36 @@ func TestMade(t *testing.T) {
 		t.Errorf("%d with faults, %d without", faulty, whole)
 	}
 }
+
+// TestMadeOf holds Of against the model in trees whose declarations often have one name.
+func TestMadeOf(t *testing.T) {
+	all := readSentences()
+	rng := rand.New(rand.NewSource(39))
+	faulty, whole := 0, 0
+	for i := range 20000 {
+		m := maker{rng: rng, all: all, wild: []int{40, 200, 600}[i%3]}
+		n := parsed(t, m.statute())
+		for j := range n.Kids {
+			if d := &n.Kids[j]; rng.Intn(4) == 0 {
+				d.Name = n.Kids[rng.Intn(len(n.Kids))].Name
+			}
+		}
+		e := expression(t, m.expr(m.kind(), rng.Intn(4)))
+		with := []Field{}
+		for range rng.Intn(3) {
+			with = append(with, Field{n.Kids[rng.Intn(len(n.Kids))].Name, api.Kind(rng.Intn(6) + 1)})
+		}
+		want := model{all: all, n: n, around: slices.Clone(with)}
+		if k, is := Of(n, e, with...), want.expr(e); len(want.faults) > 0 && k != api.None || len(want.faults) == 0 && modelKinds[k] != is {
+			t.Fatalf("P11.2: Of(%s) in %q with %v: %d, want %q, %v", syn.Show(e), syn.Show(n), with, k, is, want.faults)
+		}
+		if len(want.faults) > 0 {
+			faulty++
+		} else {
+			whole++
+		}
+	}
+	if faulty < 3000 || whole < 3000 {
+		t.Errorf("%d with faults, %d without", faulty, whole)
+	}
+}

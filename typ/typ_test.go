@@ -283,6 +283,37 @@ func TestOf(t *testing.T) {
 	}
 }
 
+// TestOneName checks P11.2 where a table and an input or rule have one name: Check tells it, Of is asked of an expression alone.
+func TestOneName(t *testing.T) {
+	table, input, rule := "table x count rate { else 1% } ", "input x count; ", "rule x count = 1; "
+	for _, decls := range []string{
+		table + input, input + table, table + rule, rule + table,
+		"table x date rate { else 1% } " + input, "table x count moneys { else 1% } " + input, // a faulty table
+		table + input + "rule x money = $1; ", rule + "input x date; " + table, // the first that is a value
+		input + table + "table x date money { else $1 } ", table + "table x count date { else 2024-01-01 } " + rule, // the first table
+	} {
+		n := parsed(t, "input l moneys; "+decls)
+		row := api.Rate
+		switch {
+		case strings.Contains(decls, "table x date rate"):
+			row = api.None
+		case strings.Contains(decls, "moneys {"):
+			row = api.List
+		}
+		for text, want := range map[string]api.Kind{
+			"x": api.Count, "x + 1": api.Count, "at(x, 1)": row, "at(x, x)": row, "x + $1": api.None, "at(x, $1)": api.None,
+			"sum(x in l: $1)": api.None, "sum(y in l: y)": api.Money, "sum(y in l: x)": api.Count,
+		} {
+			if k := Of(n, expression(t, text)); k != want {
+				t.Errorf("P11.2: Of(%s) in %q: %d, want %d", text, decls, k, want)
+			}
+		}
+		if at, e := Check(n); e != api.ETYPE || at != n.Kids[2].At {
+			t.Errorf("P11.1: Check of %q: %d, %v, want ETYPE at the second x", decls, at, e)
+		}
+	}
+}
+
 // TestMisshapen checks R1: trees that syn does not tell are refused, by Check and Of alike.
 func TestMisshapen(t *testing.T) {
 	lit := syn.Node{Op: "lit", Kind: api.Count, N: 1, At: 7}
