@@ -135,6 +135,8 @@ func modelNumber(op, kinds string, a, b *big.Int) *big.Int {
 	return bit(map[string]bool{"<": cmp < 0, "<=": cmp <= 0, ">": cmp > 0, ">=": cmp >= 0, "==": cmp == 0, "!=": cmp != 0}[op])
 }
 
+const maxRate = 1000000000000
+
 // opNumbers has numbers of a kind, at its edges and beside them.
 func opNumbers(k api.Kind, wild bool) []int64 {
 	l := []int64{0, 1}
