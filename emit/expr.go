@@ -48,17 +48,24 @@ func (m *maker) either(e syn.Node) (kind api.Kind, isTurned bool) {
 	return m.reckon(e), false
 }
 
-// lit puts a constant on the stack. One that the pool of constants has no room for stands in a table, at a row's number.
+// lit puts a constant on the stack.
 func (m *maker) lit(kind api.Kind, n int64) api.Kind {
-	if at, ok := m.pool.constant(kind, n, maxConsts-maxRows); ok {
-		m.add("const", at)
-		return kind
-	}
-	at := m.pool.spare(kind, n)
-	key, _ := m.pool.constant(api.Count, int64(at.row), maxConsts) // there is room for as many as a table has rows
-	m.add("const", key)
-	m.add("at", at.table)
+	v := constant{kind, n}
+	m.pool.use(v, m.now.height+1 >= api.MaxStack)
+	m.put(v)
 	return kind
+}
+
+func (m *maker) put(v constant) {
+	r, isMade := m.plan.recipes[v]
+	if !isMade {
+		m.add("const", m.pool.constant(v))
+		return
+	}
+	for _, part := range r.parts {
+		m.put(part)
+	}
+	m.add(r.name, r.operand)
 }
 
 // name puts on the stack what a name stands for: typ lets no two of them be alike.
@@ -73,10 +80,41 @@ func (m *maker) name(name string) api.Kind {
 
 // reckon works an operator of two kids out that makes no bool.
 func (m *maker) reckon(e syn.Node) api.Kind {
-	first, second := m.expr(e.Kids[0]), m.expr(e.Kids[1])
-	kind := outcome(e.Op, first, second)
+	first, second := m.expr(e.Kids[0]), e.Kids[1]
+	if second.Op == "lit" && (e.Op == "+" || e.Op == "-") {
+		return m.move(e.Op, first, constant{second.Kind, second.N})
+	}
+	kind := outcome(e.Op, first, m.expr(second))
 	m.add(instruction(e.Op), int(kind))
 	return kind
+}
+
+// move adds a constant to what is on the stack, or takes it away; one below 0 does the other, turned. One that is made of two is so by
+// one after the other, and the stack gets no higher for it. Both go the same way: what would be too great between them is so behind them.
+func (m *maker) move(op string, first api.Kind, v constant) api.Kind {
+	kind, name := outcome(op, first, v.kind), instruction(op)
+	if v.n < 0 {
+		v.n = -v.n
+		name = instruction(opposite(op))
+	}
+	m.pool.use(v, false)
+	parts := []constant{v}
+	if r := m.plan.recipes[v]; len(r.parts) == 2 {
+		parts = r.parts
+	}
+	for _, part := range parts {
+		m.put(part)
+		m.add(name, int(kind))
+	}
+	return kind
+}
+
+// opposite is of + or -.
+func opposite(op string) string {
+	if op == "+" {
+		return "-"
+	}
+	return "+"
 }
 
 // outcome tells the kind of what an operator makes of two kinds: typ is asked, of names that have them.

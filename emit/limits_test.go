@@ -151,7 +151,7 @@ func many(consts, tables int) string {
 	return s + sum + ";"
 }
 
-// TestManyConstants checks that constants past verify's 1024 stand elsewhere: they are no limit of P16.1's.
+// TestManyConstants checks that constants past verify's 1024 are had in other ways: they are no limit of P16.1's.
 func TestManyConstants(t *testing.T) {
 	for _, consts := range []int{1, 31, 32, 33, 990, 991, 992, 993, 994, 1023, 1024, 1025, 1026, 1055, 1056, 1057, 1200, 1300} {
 		n, p := limited(t, fmt.Sprint(consts, " constants"), many(consts, 0), api.OK)
@@ -173,7 +173,7 @@ func TestManyConstants(t *testing.T) {
 		}
 	}
 	n, p := limited(t, "constants of all kinds", text+strings.Join(sums[:], ";")+";", api.OK)
-	if len(p.Consts) > 1024 || len(p.Tables) < 8 {
+	if len(p.Consts) != 1024 || len(p.Tables) != 7 {
 		t.Errorf("%d constants, %d tables", len(p.Consts), len(p.Tables))
 	}
 	for day := int64(36000); day < 40000; day += 111 {
@@ -181,17 +181,18 @@ func TestManyConstants(t *testing.T) {
 	}
 	// One that is there already takes no room.
 	n, p = limited(t, "constants once more", strings.TrimSuffix(many(1000, 0), ";")+strings.Repeat("+999+993+7", 99)+";", api.OK)
-	if len(p.Tables) != 1 || len(p.Consts) != 992 {
+	if len(p.Tables) != 0 || len(p.Consts) != 1000 {
 		t.Errorf("%d constants, %d tables", len(p.Consts), len(p.Tables))
 	}
 	means(t, n, p, value(api.Count, 5))
 	// In tests and sums, beside tables of the statute's own; and where no table is left for them.
-	n, p = limited(t, "constants beside tables", many(992+64, 62), api.OK)
-	if len(p.Tables) != 64 {
-		t.Errorf("%d tables", len(p.Tables))
+	for consts, tables := range map[int]int{1024: 62, 1025: 63, 1056: 63, 1057: 64, 1088: 64, 1089: 64, 1200: 64} {
+		n, p = limited(t, fmt.Sprint(consts, " constants beside tables"), many(consts, 62), api.OK)
+		if len(p.Tables) != tables || len(p.Consts) != 1024 {
+			t.Errorf("%d constants: %d tables, %d constants", consts, len(p.Tables), len(p.Consts))
+		}
+		means(t, n, p, value(api.Count, 3))
 	}
-	means(t, n, p, value(api.Count, 3))
-	limited(t, "constants for which no table is left", many(992+65, 62), api.ELIMIT)
 	all := strings.TrimSuffix(many(1000, 0), ";") + "+sum(q in l: if x < 999 and x != 998 then 2000 else 2001); input l moneys; input b bool; rule z bool = b and x == 2003 or true;"
 	n, p = limited(t, "constants in sums", all, api.OK)
 	for _, x := range []int64{997, 998, 999, 2003} {

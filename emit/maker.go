@@ -27,6 +27,7 @@ type maker struct {
 	leaning map[string]int // how many rules that are not done name the rule
 	around  []typ.Field    // the sums around, the innermost last
 	isBusy  []bool         // of each slot
+	plan    plan
 	pool    pool
 	now     state
 	behind  []state // what was true behind each instruction
@@ -40,10 +41,10 @@ type state struct {
 	steps  int64
 }
 
-func newMaker(n syn.Node) *maker {
+func newMaker(n syn.Node, p plan) *maker {
 	m := &maker{
 		statute: n, decls: map[string]syn.Node{}, inputs: map[string]int{}, outs: map[string]int{},
-		slots: map[string]int{}, leaning: map[string]int{}, pool: newPool(),
+		slots: map[string]int{}, leaning: map[string]int{}, plan: p, pool: newPool(p.tables),
 	}
 	for _, d := range n.Kids {
 		m.decls[d.Name] = d
@@ -63,14 +64,26 @@ func newMaker(n syn.Node) *maker {
 	return m
 }
 
-// program is what was made, if verify takes as much.
-func (m *maker) program() (code.Program, api.Errno) {
+// isCrowded tells whether there are more constants than verify takes.
+func (m *maker) isCrowded() bool { return len(m.pool.consts) > maxConsts }
+
+// isWithin tells whether verify takes as much of all else.
+func (m *maker) isWithin() bool {
+	return len(m.p.Code) <= api.MaxCode && m.highest <= api.MaxStack && len(m.p.Slots) <= maxSlots &&
+		len(m.pool.tables) <= maxTables && !m.pool.isOff && m.now.steps <= maxSteps
+}
+
+func (m *maker) program() code.Program {
 	m.p.Consts, m.p.Tables = m.pool.consts, m.pool.tables
-	if len(m.p.Code) > api.MaxCode || m.highest > api.MaxStack || len(m.p.Slots) > maxSlots ||
-		len(m.p.Tables) > maxTables || m.pool.isOff || m.now.steps > maxSteps {
-		return code.Program{}, api.ELIMIT
+	return m.p
+}
+
+// rules works all of them out, in this order.
+func (m *maker) rules(names []string) {
+	for _, name := range names {
+		m.rule(name)
 	}
-	return m.p, api.OK
+	m.add("halt")
 }
 
 // rule works a rule out, behind those it names.

@@ -135,13 +135,9 @@ func (m *statuter) in(n syn.Node) []api.Value {
 // bounds checks that what the maker told itself of steps and stack is what verify finds.
 func bounds(t *testing.T, n syn.Node) {
 	t.Helper()
-	m := newMaker(fold.Fold(n))
 	rules, _ := order.Sort(n)
-	for _, name := range rules {
-		m.rule(name)
-	}
-	m.add("halt")
-	p, _ := m.program()
+	m := write(fold.Fold(n), rules)
+	p := m.program()
 	b, f, ok := verify.Check(p)
 	if !ok || b.Steps != m.now.steps || b.Stack != m.highest || m.now.height != 0 {
 		t.Fatalf("%.2000s: %v, %v, made %v, %d", syn.Show(n), b, f, m.now, m.highest)

@@ -1,6 +1,8 @@
 package emit
 
 import (
+	"slices"
+
 	"publican/api"
 	"publican/code"
 	"publican/limit"
@@ -13,9 +15,8 @@ type pool struct {
 	tables []code.Table
 	places map[constant]int // in consts
 	named  map[string]int   // the statute's tables, in tables
-	rows   map[constant]row // of what stands in tables for want of room in consts
-	open   map[api.Kind]int // the last table that was made for such, of each kind
-	isOff  bool             // some number or table is none that a program may have: syn tells no such tree
+	uses   map[constant]use
+	isOff  bool // some number or table is none that a program may have: syn tells no such tree
 }
 
 type constant struct {
@@ -23,27 +24,35 @@ type constant struct {
 	n    int64
 }
 
-// row is a place in a table; its key is its number.
-type row struct{ table, row int }
+// use is how a statute uses a constant: how often, and how often where no other would find room above it on the stack.
+type use struct{ times, high int }
 
-func newPool() pool {
+// newPool has these tables ahead of the statute's.
+func newPool(tables []code.Table) pool {
 	return pool{
-		places: map[constant]int{}, named: map[string]int{},
-		rows: map[constant]row{}, open: map[api.Kind]int{},
+		tables: slices.Clone(tables), places: map[constant]int{}, named: map[string]int{}, uses: map[constant]use{},
 	}
 }
 
-// constant tells where a constant stands; false, if it would be past the room.
-func (p *pool) constant(kind api.Kind, n int64, room int) (int, bool) {
-	v := constant{kind, n}
-	at, ok := p.places[v]
-	if ok || len(p.consts) >= room {
-		return at, ok
+// use takes note of one.
+func (p *pool) use(v constant, isHigh bool) {
+	u := p.uses[v]
+	u.times++
+	if isHigh {
+		u.high++
 	}
-	at = len(p.consts)
-	p.consts = append(p.consts, api.Value{Kind: kind, N: p.checked(kind, n)})
-	p.places[v] = at
-	return at, true
+	p.uses[v] = u
+}
+
+// constant tells where a constant stands.
+func (p *pool) constant(v constant) int {
+	at, ok := p.places[v]
+	if !ok {
+		at = len(p.consts)
+		p.consts = append(p.consts, api.Value{Kind: v.kind, N: p.checked(v.kind, v.n)})
+		p.places[v] = at
+	}
+	return at
 }
 
 // checked is the number, and takes note of one that may not be.
@@ -52,28 +61,6 @@ func (p *pool) checked(kind api.Kind, n int64) int64 {
 		p.isOff = true
 	}
 	return n
-}
-
-// spare tells the row of a constant in a table that was made for such.
-func (p *pool) spare(kind api.Kind, n int64) row {
-	v := constant{kind, n}
-	if at, ok := p.rows[v]; ok {
-		return at
-	}
-	last, ok := p.open[kind]
-	if !ok || len(p.tables[last].Vals) == maxRows {
-		last = len(p.tables)
-		p.tables = append(p.tables, code.Table{Key: api.Count, Val: kind})
-		p.open[kind] = last
-	}
-	t := &p.tables[last]
-	at := row{last, len(t.Vals)}
-	if at.row > 0 {
-		t.Keys = append(t.Keys, int64(at.row-1)) // the one ahead is no more the last, which has no key
-	}
-	t.Vals = append(t.Vals, p.checked(kind, n))
-	p.rows[v] = at
-	return at
 }
 
 // table tells where one of the statute's tables stands.
